@@ -4,10 +4,32 @@ import random
 from dataclasses import dataclass, field, replace
 
 from washedsheets.desk import answers
-from washedsheets.house import House
 
-OPEN, NEED, PRICE, PLAN, COST, PROOF, MARGIN, CHECK = range(8)
+(OPEN, NEED, PRICE, PLAN, COST, PROOF, MARGIN, CHECK,
+ PROVE, CARRY, ACT, LOSE, FOUND, WORTH, STATE, DUE) = range(16)
 HUGE = 1000000000000000000
+
+# Of each call's numbers the least and the most; of each of its lists also the least and the most length.
+RANGES = {
+    OPEN: ((1, 5), (1, 9), (0, 1000), (0, 1000), (0, 50), (0, 50), (0, 10000, 1, 7), (0, 20, 1, 7)),
+    NEED: ((0, 6), (0, 20)),
+    PRICE: ((0, 6), (0, 10000)),
+    PLAN: (),
+    COST: (),
+    PROOF: (),
+    MARGIN: ((0, 6),),
+    CHECK: ((0, 999, 0, 7),) * 3,
+    PROVE: ((-1000000, 1000000, 0, 7),) * 2,
+    CARRY: (),
+    ACT: ((0, 999),) * 3,
+    LOSE: ((1, 1000),),
+    FOUND: ((1, 1000),),
+    WORTH: ((1, 100),),
+    STATE: (),
+    DUE: (),
+}
+# Of these a line has at most 30.
+COUNTED = (PLAN, COST, PROOF, MARGIN, CARRY, WORTH)
 
 
 def line_of(calls):
@@ -46,7 +68,7 @@ def ask_last(*calls):
 
 @dataclass
 class Case:
-    """A house on its first day to come. aside: clean sheets that have to be put aside, for each day."""
+    """A house from today on, which is its day 0. aside: clean sheets that have to be put aside, for each day."""
     fast_days: int
     slow_days: int
     fast_cost: int
@@ -75,16 +97,6 @@ class Case:
 
     def with_one_aside(self, day):
         return replace(self, aside=self.aside[:day] + [self.aside[day] + 1] + self.aside[day + 1:])
-
-
-def house_of(case, before=0):
-    """The program's own house, with so many days carried out before: no call of a line leads there yet."""
-    washes = (case.fast_days, case.slow_days, case.fast_cost, case.slow_cost)
-    house = House(washes, case.clean, case.dirty, [1] * before + case.prices, [2] * before + case.needs)
-    house.today = before
-    for day in range(case.days):
-        house.due[before + day] = case.due[day]
-    return house
 
 
 def carry(case, plan):
@@ -242,23 +254,25 @@ def improve(case):
     return (carry(case, plan)[1],) + plan
 
 
+def faults_of_day(case, clean, dirty, day):
+    """All of the day's faults, not the first alone."""
+    after_fast, after_slow = day + case.fast_days, day + case.slow_days
+    asked = (
+        clean[day] > case.prices[day],
+        day > 0 and clean[day] > clean[day - 1],
+        clean[day] < 0,
+        dirty[day] < 0,
+        day + 1 < case.days and dirty[day] < dirty[day + 1],
+        after_fast < case.days and dirty[day] < clean[after_fast] - case.fast_cost,
+        after_slow < case.days and dirty[day] < clean[after_slow] - case.slow_cost,
+    )
+    return [number for number, is_so in enumerate(asked, start=1) if is_so]
+
+
 def faults(case, clean, dirty):
     """(day, fault) of each day that has one."""
-    found = []
-    for day in range(case.days):
-        after_fast, after_slow = day + case.fast_days, day + case.slow_days
-        asked = (
-            clean[day] > case.prices[day],
-            day > 0 and clean[day] > clean[day - 1],
-            clean[day] < 0,
-            dirty[day] < 0,
-            day + 1 < case.days and dirty[day] < dirty[day + 1],
-            after_fast < case.days and dirty[day] < clean[after_fast] - case.fast_cost,
-            after_slow < case.days and dirty[day] < clean[after_slow] - case.slow_cost,
-        )
-        if any(asked):
-            found.append((day, asked.index(True) + 1))
-    return found
+    told = [(day, faults_of_day(case, clean, dirty, day)) for day in range(case.days)]
+    return [(day, numbers[0]) for day, numbers in told if numbers]
 
 
 def bound(case, clean, dirty):
@@ -266,11 +280,6 @@ def bound(case, clean, dirty):
     for day in range(case.days):
         total += case.needs[day] * (clean[day] - dirty[day]) - case.due[day] * clean[day]
     return total
-
-
-def some_case_with_due(seed):
-    chance = random.Random(seed)
-    return replace(some_case(seed, 3), due=[chance.randint(0, 2) for day in range(3)])
 
 
 def some_case(seed, days, most_need=2, most_sheets=2, most_price=6, most_cost=3, most_slow=4):
@@ -284,3 +293,178 @@ def some_case(seed, days, most_need=2, most_sheets=2, most_price=6, most_cost=3,
         [chance.randint(0, most_price) for day in range(days)],
         [chance.randint(0, most_need) for day in range(days)],
     )
+
+
+def least_dirty_prices(case, clean):
+    dirty = [0] * case.days
+    for day in reversed(range(case.days)):
+        asked = [0] + dirty[day + 1:day + 2]
+        for wash, cost in ((case.fast_days, case.fast_cost), (case.slow_days, case.slow_cost)):
+            asked += [price - cost for price in clean[day + wash:day + wash + 1]]
+        dirty[day] = max(asked)
+    return dirty
+
+
+class Refused(Exception):
+    """Its one value is what is answered."""
+
+
+class Model:
+    """A house as the document tells it, apart from the program: what each call of a line must answer.
+
+    best_of: how the cheapest plan is found, search or improve.
+    """
+
+    def __init__(self, best_of):
+        self.best_of = best_of
+        self.is_open = False
+        self.today = 0
+        self.paid = self.bought = self.lost = 0
+        self.due = {}
+
+    def answer(self, call):
+        try:
+            self.ask_ranges(call)
+            if call[0] != OPEN and not self.is_open:
+                raise Refused(-2)
+            told = self.ANSWERERS[call[0]](self, *call[1:])
+        except Refused as refused:
+            return [refused.args[0]]
+        return [0] + told
+
+    def ask_ranges(self, call):
+        for part, ends in zip(call[1:], RANGES[call[0]], strict=True):
+            numbers = part if isinstance(part, list) else [part]
+            if isinstance(part, list) and not ends[2] <= len(part) <= ends[3]:
+                raise Refused(-1)
+            if not all(ends[0] <= number <= ends[1] for number in numbers):
+                raise Refused(-1)
+
+    def case(self):
+        coming = range(self.today, self.days)
+        return Case(*self.washes, self.clean, self.dirty, self.prices[self.today:], self.needs[self.today:],
+                    [self.due.get(day, 0) for day in coming])
+
+    def ask_last_day(self):
+        if self.today == self.days:
+            raise Refused(-7)
+
+    def ask_day(self, day):
+        if not self.today <= day < self.days:
+            raise Refused(-6)
+
+    def ask_lengths(self, *rows):
+        if any(len(row) != self.days - self.today for row in rows):
+            raise Refused(-5)
+
+    def best(self):
+        self.ask_last_day()
+        return self.best_of(self.case())
+
+    def open_house(self, fast_days, slow_days, fast_cost, slow_cost, clean, dirty, prices, needs):
+        if self.is_open:
+            raise Refused(-3)
+        if slow_days < fast_days:
+            raise Refused(-4)
+        if len(prices) != len(needs):
+            raise Refused(-5)
+        self.is_open = True
+        self.washes = (fast_days, slow_days, fast_cost, slow_cost)
+        self.clean, self.dirty = clean, dirty
+        self.prices, self.needs = list(prices), list(needs)
+        self.days = len(prices)
+        return []
+
+    def need(self, day, number):
+        self.ask_day(day)
+        self.needs[day] = number
+        return []
+
+    def price(self, day, number):
+        self.ask_day(day)
+        self.prices[day] = number
+        return []
+
+    def plan(self):
+        cost, b, f, w = self.best()
+        return [cost] + b + f + w
+
+    def cost(self):
+        return [self.best()[0]]
+
+    def proof(self):
+        cost = self.best()[0]
+        case = self.case()
+        clean = [self.best_of(case.with_one_aside(day))[0] - cost for day in range(case.days)]
+        dirty = least_dirty_prices(case, clean)
+        return [bound(case, clean, dirty)] + clean + dirty
+
+    def margin(self, day):
+        self.ask_day(day)
+        case, place = self.case(), day - self.today
+        return [self.best_of(case.with_need(place, case.needs[place] + 1))[0] - self.best()[0]]
+
+    def check(self, b, f, w):
+        self.ask_last_day()
+        self.ask_lengths(b, f, w)
+        carried = carry(self.case(), (b, f, w))
+        return [1, carried[1]] if carried[0] else [0, self.today + carried[1]]
+
+    def prove(self, clean, dirty):
+        self.ask_last_day()
+        self.ask_lengths(clean, dirty)
+        found = faults(self.case(), clean, dirty)
+        return [0, self.today + found[0][0], found[0][1]] if found else [1, bound(self.case(), clean, dirty)]
+
+    def carry(self):
+        cost, b, f, w = self.best()
+        return [b[0], f[0], w[0]] + self.act(b[0], f[0], w[0])
+
+    def act(self, b, f, w):
+        self.ask_last_day()
+        day = self.today
+        clean = self.clean + self.due.get(day, 0) + b - self.needs[day]
+        dirty = self.dirty + self.needs[day] - f - w
+        if clean < 0 or dirty < 0:
+            raise Refused(-8)
+        fast_days, slow_days, fast_cost, slow_cost = self.washes
+        self.clean, self.dirty, self.today = clean, dirty, day + 1
+        self.due[day + fast_days] = self.due.get(day + fast_days, 0) + f
+        self.due[day + slow_days] = self.due.get(day + slow_days, 0) + w
+        paid = b * self.prices[day] + f * fast_cost + w * slow_cost
+        self.paid += paid
+        self.bought += b
+        return [paid]
+
+    def lose(self, number):
+        if number > self.clean:
+            raise Refused(-9)
+        self.clean -= number
+        self.lost += number
+        return [self.clean]
+
+    def find(self, number):
+        if number > self.lost:
+            raise Refused(-9)
+        self.lost -= number
+        self.dirty += number
+        return [self.dirty]
+
+    def worth(self, number):
+        return [self.best()[0] - self.best_of(replace(self.case(), clean=self.clean + number))[0]]
+
+    def state(self):
+        return [self.today, self.days, self.clean, self.dirty, self.paid, self.bought, self.lost]
+
+    def told_due(self):
+        coming = [self.due.get(day, 0) for day in range(self.today, self.days)]
+        return coming + [sum(sheets for day, sheets in self.due.items() if day >= self.days)]
+
+    ANSWERERS = {OPEN: open_house, NEED: need, PRICE: price, PLAN: plan, COST: cost, PROOF: proof, MARGIN: margin,
+                 CHECK: check, PROVE: prove, CARRY: carry, ACT: act, LOSE: lose, FOUND: find, WORTH: worth,
+                 STATE: state, DUE: told_due}
+
+
+def model_answers(calls, best_of):
+    model = Model(best_of)
+    return [model.answer(call) for call in calls]

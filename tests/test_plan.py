@@ -4,9 +4,8 @@ import random
 import unittest
 from dataclasses import replace
 
-from tests.helper import (CHECK, COST, NEED, PLAN, PRICE, Case, ask, ask_last, carry, every_plan, house_of, improve,
-                          search, some_case, some_case_with_due)
-from washedsheets.planning import cheapest_plan, plan_cost
+from tests.helper import (CHECK, COST, NEED, PLAN, PRICE, Case, ask, ask_last, carry, every_plan, improve, search,
+                          some_case)
 
 
 def plan_told(case):
@@ -132,15 +131,6 @@ class BySearch(Plans):
             best = search(replace(case, needs=other.needs, prices=other.prices))
             told = ask(case.opening(), (PLAN,), *changes, (PLAN,), (COST,))
             self.assertEqual(told[-2:], [[0, best[0]] + best[1] + best[2] + best[3], [0, best[0]]])
-
-
-class Later(unittest.TestCase):
-    def test_with_sheets_due(self):
-        for seed in range(60):
-            case = some_case_with_due(seed)
-            house = house_of(case, seed % 3)
-            plan = cheapest_plan(house)
-            self.assertEqual((plan_cost(house, plan), *plan), search(case))
 
 
 class Largest(Plans):

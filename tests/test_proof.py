@@ -4,9 +4,8 @@ import random
 import unittest
 from dataclasses import replace
 
-from tests.helper import (COST, MARGIN, NEED, PLAN, PROOF, Case, ask, ask_last, bound, faults, house_of, improve,
-                          search, some_case, some_case_with_due)
-from washedsheets.planning import bound_of, clean_prices, dirty_prices
+from tests.helper import (COST, MARGIN, NEED, PLAN, PROOF, Case, ask, ask_last, bound, faults, improve, search,
+                          some_case)
 
 
 def large_case(seed):
@@ -75,18 +74,6 @@ class Proof(unittest.TestCase):
         for seed in range(25):
             self.prove(large_case(seed), improve)
         self.prove(Case(1, 3, 1000, 0, 0, 0, [10000] * 7, [20] * 7), improve)
-
-    def test_with_sheets_due(self):
-        for seed in range(25):
-            case = some_case_with_due(seed)
-            house = house_of(case, seed % 3)
-            clean = clean_prices(house)
-            dirty = dirty_prices(house, clean)
-            cost = search(case)[0]
-            self.assertEqual(clean, [search(case.with_one_aside(day))[0] - cost for day in range(3)])
-            self.assertEqual(faults(case, clean, dirty), [])
-            self.least(case, clean, dirty)
-            self.assertEqual(bound_of(house, clean, dirty), cost)
 
     def test_it_is_the_cost_told(self):
         for seed in range(25):

@@ -2,9 +2,13 @@
 
 from washedsheets.forms import Call, is_in_range
 from washedsheets.house import House, carry_day_out, day_can_be, days_to_come, house_like, is_over, is_to_come
-from washedsheets.planning import bound_of, cheapest_cost, cheapest_plan, clean_prices, dirty_prices, plan_cost
+from washedsheets.planning import cheapest_cost, cheapest_plan, clean_prices, plan_cost
+from washedsheets.pricing import bound_of, dirty_prices, first_fault
 
 OPENING = 0
+# plan, cost, proof, check, prove, carry, act, worth. That no day is left is the first of what refuses each of
+# them, so it is asked for all of them in one place.
+NEEDING_A_DAY = (3, 4, 5, 7, 8, 9, 10, 13)
 
 DONE = 0
 OUT_OF_RANGE = -1
@@ -14,6 +18,8 @@ SLOW_BELOW_FAST = -4
 WRONG_LENGTH = -5
 NO_DAY_TO_COME = -6
 ALL_CARRIED_OUT = -7
+CAN_NOT_BE = -8
+NOT_SO_MANY = -9
 
 
 # What is kept from call to call within one line.
@@ -54,23 +60,17 @@ def answer_price(desk, call):
 
 def answer_plan(desk, call):
     house = desk.house
-    if is_over(house):
-        return [ALL_CARRIED_OUT]
     plan = cheapest_plan(house)
     return [DONE, plan_cost(house, plan)] + plan[0] + plan[1] + plan[2]
 
 
 def answer_cost(desk, call):
     house = desk.house
-    if is_over(house):
-        return [ALL_CARRIED_OUT]
     return [DONE, cheapest_cost(house)]
 
 
 def answer_proof(desk, call):
     house = desk.house
-    if is_over(house):
-        return [ALL_CARRIED_OUT]
     clean = clean_prices(house)
     dirty = dirty_prices(house, clean)
     return [DONE, bound_of(house, clean, dirty)] + clean + dirty
@@ -86,12 +86,14 @@ def answer_margin(desk, call):
     return [DONE, cheapest_cost(needier) - cheapest_cost(house)]
 
 
+def has_a_number_for_each_day(house, rows):
+    count = len(days_to_come(house))
+    return all([len(row) == count for row in rows])
+
+
 def answer_check(desk, call):
     house = desk.house
-    if is_over(house):
-        return [ALL_CARRIED_OUT]
-    count = len(days_to_come(house))
-    if any([len(row) != count for row in call.rows]):
+    if not has_a_number_for_each_day(house, call.rows):
         return [WRONG_LENGTH]
     trial = house_like(house)
     cost = 0
@@ -100,6 +102,72 @@ def answer_check(desk, call):
             return [DONE, 0, trial.today]
         cost += carry_day_out(trial, bought, fast, slow)
     return [DONE, 1, cost]
+
+
+def answer_prove(desk, call):
+    house = desk.house
+    if not has_a_number_for_each_day(house, call.rows):
+        return [WRONG_LENGTH]
+    clean = call.rows[0]
+    dirty = call.rows[1]
+    fault = first_fault(house, clean, dirty)
+    if fault is not None:
+        return [DONE, 0] + fault
+    return [DONE, 1, bound_of(house, clean, dirty)]
+
+
+def answer_carry(desk, call):
+    house = desk.house
+    numbers = [row[0] for row in cheapest_plan(house)]
+    paid = carry_day_out(house, numbers[0], numbers[1], numbers[2])
+    return [DONE] + numbers + [paid]
+
+
+def answer_act(desk, call):
+    house = desk.house
+    numbers = call.numbers
+    if not day_can_be(house, numbers[0], numbers[1], numbers[2]):
+        return [CAN_NOT_BE]
+    return [DONE, carry_day_out(house, numbers[0], numbers[1], numbers[2])]
+
+
+def answer_lose(desk, call):
+    house = desk.house
+    count = call.numbers[0]
+    if count > house.clean:
+        return [NOT_SO_MANY]
+    house.clean -= count
+    house.lost += count
+    return [DONE, house.clean]
+
+
+def answer_found(desk, call):
+    house = desk.house
+    count = call.numbers[0]
+    if count > house.lost:
+        return [NOT_SO_MANY]
+    house.lost -= count
+    house.dirty += count
+    return [DONE, house.dirty]
+
+
+def answer_worth(desk, call):
+    house = desk.house
+    richer = house_like(house)
+    richer.clean += call.numbers[0]
+    return [DONE, cheapest_cost(house) - cheapest_cost(richer)]
+
+
+def answer_state(desk, call):
+    house = desk.house
+    days = [house.today, len(house.prices)]
+    return [DONE] + days + [house.clean, house.dirty, house.paid, house.bought, house.lost]
+
+
+def answer_due(desk, call):
+    house = desk.house
+    count = len(house.prices)
+    return [DONE] + house.due[house.today:count] + [sum(house.due[count:])]
 
 
 # By the calls' numbers.
@@ -112,6 +180,14 @@ ANSWERERS = (
     answer_proof,
     answer_margin,
     answer_check,
+    answer_prove,
+    answer_carry,
+    answer_act,
+    answer_lose,
+    answer_found,
+    answer_worth,
+    answer_state,
+    answer_due,
 )
 
 
@@ -120,6 +196,8 @@ def answer_call(desk, call):
         return [OUT_OF_RANGE]
     if call.number != OPENING and desk.house is None:
         return [NOT_OPEN]
+    if call.number in NEEDING_A_DAY and is_over(desk.house):
+        return [ALL_CARRIED_OUT]
     return ANSWERERS[call.number](desk, call)
 
 

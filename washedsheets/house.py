@@ -15,11 +15,15 @@ class House:
         self.prices = list(prices)
         self.needs = list(needs)
         self.today = 0
+        self.paid = 0
+        self.bought = 0
+        self.lost = 0
         # A wash of the last day may come back so many days behind it.
         self.due = [0] * (len(self.prices) + LONGEST_WASH)
 
 
-# A trial changes such a twin, so that the house itself stays as it is.
+# A trial changes such a twin, so that the house itself stays as it is. What's been paid, bought and lost so far
+# says nothing of the days to come, so the twin begins anew with that.
 def house_like(house):
     washes = (house.fast_days, house.slow_days, house.fast_cost, house.slow_cost)
     twin = House(washes, house.clean, house.dirty, house.prices, house.needs)
@@ -51,7 +55,8 @@ def day_cost(house, day, bought, fast, slow):
     return bought * house.prices[day] + fast * house.fast_cost + slow * house.slow_cost
 
 
-# Gives back what is paid. It doesn't ask whether the day can be: the caller has, and answers in its own way.
+# Gives back what is paid on that day. It doesn't ask whether the day can be: the caller has, and answers in its
+# own way.
 def carry_day_out(house, bought, fast, slow):
     day = house.today
     paid = day_cost(house, day, bought, fast, slow)
@@ -60,5 +65,7 @@ def carry_day_out(house, bought, fast, slow):
     house.dirty += house.needs[day] - fast - slow
     house.due[day + house.fast_days] += fast
     house.due[day + house.slow_days] += slow
+    house.paid += paid
+    house.bought += bought
     house.today = day + 1
     return paid

@@ -1,4 +1,4 @@
-"""The cheapest plan of a house, and the prices that prove that none is cheaper.
+"""The cheapest plan of a house, and what one clean sheet more would cost on each day.
 
 Sheets flow from outside to the clean ones of each day: new ones at the day's price; those that are there
 or due for nothing; and a day's used ones, for nothing to its dirty ones, from there through the washes.
@@ -121,24 +121,3 @@ def clean_prices(house):
     ways.meet_needs()
     lengths = shortest_ways(ways.network, OUTSIDE)[0]
     return [lengths[ways.clean_node(place)] for place in range(len(days))]
-
-
-# From the last day on, because each day's price leans on the next one's.
-def dirty_prices(house, clean):
-    prices = []
-    least = 0
-    for place in range(len(clean) - 1, -1, -1):
-        if place + house.fast_days < len(clean):
-            least = max(least, clean[place + house.fast_days] - house.fast_cost)
-        if place + house.slow_days < len(clean):
-            least = max(least, clean[place + house.slow_days] - house.slow_cost)
-        prices.append(least)
-    prices.reverse()
-    return prices
-
-
-def bound_of(house, clean, dirty):
-    bound = -house.clean * clean[0] - house.dirty * dirty[0]
-    for place, day in enumerate(days_to_come(house)):
-        bound += house.needs[day] * (clean[place] - dirty[place]) - house.due[day] * clean[place]
-    return bound
